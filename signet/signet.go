@@ -1,0 +1,65 @@
+// Package signet: signatures over small lattices, tried till one may be shown: see DOC.md.
+package signet
+
+import (
+	"signet/api"
+	"signet/digest"
+	"signet/draw"
+	"signet/ring"
+)
+
+// Digest is the digest of bytes (P3).
+func Digest(b []byte) []byte {
+	sum := digest.Of(b...).Sum()
+	return sum[:]
+}
+
+// Stream is the beginning of a stream (P3).
+func Stream(b []byte, n int) ([]byte, api.Errno) {
+	if n < 0 || n > api.MaxStream {
+		return nil, api.ErrArg
+	}
+	r := digest.Of(b...).Stream()
+	out := make([]byte, n)
+	for i := range out {
+		out[i] = r.Next()
+	}
+	return out, api.OK
+}
+
+// Mul is a product (P4).
+func Mul(a api.Poly, b api.Poly) (api.Poly, api.Errno) {
+	if !ring.IsPoly(a) || !ring.IsPoly(b) {
+		return api.Poly{}, api.ErrArg
+	}
+	return ring.Reduce(ring.Product(a, b)), api.OK
+}
+
+// Parts is the high and the low part of a number (P4).
+func Parts(r int) (int, int, api.Errno) {
+	if !ring.IsNumber(r) {
+		return 0, 0, api.ErrArg
+	}
+	high, low := ring.Parts(r)
+	return high, low, api.OK
+}
+
+// Challenge is the challenge of eight bytes (P4).
+func Challenge(tilde []byte) (api.Poly, api.Errno) {
+	if len(tilde) != api.DigestBytes {
+		return api.Poly{}, api.ErrArg
+	}
+	return ring.Reduce(draw.Challenge(tilde)), api.OK
+}
+
+// Keys makes the keys of a seed (P5).
+func Keys(seed []byte) ([]byte, []byte, api.Errno) { return nil, nil, api.OK }
+
+// Try signs with the masks of a tape (P6).
+func Try(secret []byte, text []byte, tape [][]byte) ([]byte, int, api.Errno) { return nil, 0, api.OK }
+
+// Sign signs (P7).
+func Sign(secret []byte, text []byte, salt []byte) ([]byte, api.Errno) { return nil, api.OK }
+
+// Verify checks a signature (P8).
+func Verify(public []byte, text []byte, signature []byte) (bool, api.Errno) { return false, api.OK }
