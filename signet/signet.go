@@ -5,8 +5,12 @@ import (
 	"signet/api"
 	"signet/digest"
 	"signet/draw"
+	"signet/keys"
 	"signet/ring"
+	"signet/tries"
 )
+
+const signMark = 5 // the byte that sets the digest of which masks are drawn apart from others
 
 // Digest is the digest of bytes (P3).
 func Digest(b []byte) []byte {
@@ -53,13 +57,52 @@ func Challenge(tilde []byte) (api.Poly, api.Errno) {
 }
 
 // Keys makes the keys of a seed (P5).
-func Keys(seed []byte) ([]byte, []byte, api.Errno) { return nil, nil, api.OK }
+func Keys(seed []byte) ([]byte, []byte, api.Errno) {
+	if len(seed) != api.SeedBytes {
+		return nil, nil, api.ErrSeed
+	}
+	key := keys.Make(seed)
+	return key.Public.Bytes(), key.Bytes(), api.OK
+}
 
 // Try signs with the masks of a tape (P6).
-func Try(secret []byte, text []byte, tape [][]byte) ([]byte, int, api.Errno) { return nil, 0, api.OK }
+func Try(secret []byte, text []byte, tape [][]byte) ([]byte, int, api.Errno) {
+	key, e := signer(secret, text)
+	if e != api.OK {
+		return nil, 0, e
+	}
+	masks, ok := tries.ReadTape(tape)
+	if !ok {
+		return nil, 0, api.ErrTape
+	}
+	return tries.Loop{Key: key, Text: text, Next: tries.Given(masks)}.Run()
+}
 
 // Sign signs (P7).
-func Sign(secret []byte, text []byte, salt []byte) ([]byte, api.Errno) { return nil, api.OK }
+func Sign(secret []byte, text []byte, salt []byte) ([]byte, api.Errno) {
+	key, e := signer(secret, text)
+	if e != api.OK {
+		return nil, e
+	}
+	if len(salt) != api.SeedBytes {
+		return nil, api.ErrSeed
+	}
+	seed := digest.Of(signMark).Add(secret...).Add(salt...).Add(text...).Sum()
+	signature, _, e := tries.Loop{Key: key, Text: text, Next: tries.Drawn(digest.Of(seed[:]...))}.Run()
+	return signature, e
+}
+
+// signer reads what Try and Sign have in common, in the order of their errors.
+func signer(secret []byte, text []byte) (keys.Secret, api.Errno) {
+	key, ok := keys.ReadSecret(secret)
+	if !ok {
+		return keys.Secret{}, api.ErrKey
+	}
+	if len(text) > api.MaxText {
+		return keys.Secret{}, api.ErrArg
+	}
+	return key, api.OK
+}
 
 // Verify checks a signature (P8).
 func Verify(public []byte, text []byte, signature []byte) (bool, api.Errno) { return false, api.OK }
