@@ -39,6 +39,18 @@ func (v Pair) Reduce() Pair {
 	return Pair{Reduce(v[0]), Reduce(v[1])}
 }
 
+// Within tells whether all coefficients are between -bound and bound, these two not among them.
+func (v Pair) Within(bound int) bool {
+	for _, p := range v {
+		for _, x := range p {
+			if x <= -bound || x >= bound {
+				return false
+			}
+		}
+	}
+	return true
+}
+
 // plus is a and sign times b.
 func plus(a api.Poly, b api.Poly, sign int) api.Poly {
 	for i, x := range b {

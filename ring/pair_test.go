@@ -42,3 +42,15 @@ func TestSumsAreNotTakenModuloQ(t *testing.T) {
 		t.Errorf("P2: %v and %v are left behind", v, w)
 	}
 }
+
+func TestWithinLooksAtEachCoefficient(t *testing.T) {
+	for at := range 16 {
+		for x, want := range map[int]bool{-47: false, -46: false, -45: true, 0: true, 45: true, 46: false, 47: false} {
+			var v Pair
+			v[at/8][at%8] = x
+			if v.Within(46) != want {
+				t.Errorf("P6: %v is within 46: %v", v, !want)
+			}
+		}
+	}
+}

@@ -112,6 +112,16 @@ func centred(r int) int {
 	return r
 }
 
+// tildeByHand is the digest of (3, the public key, the high parts of w, the text).
+func tildeByHand(public []byte, w [2]api.Poly, text []byte) []byte {
+	bound := joined(3, public)
+	for at := range 16 {
+		high, _, _ := signet.Parts(w[at/8][at%8])
+		bound = append(bound, byte(high))
+	}
+	return signet.Digest(append(bound, text...))
+}
+
 func tryByHand(secret []byte, text []byte, mask []byte) attempt {
 	var y [2]api.Poly
 	for at, x := range mask {
@@ -119,13 +129,11 @@ func tryByHand(secret []byte, text []byte, mask []byte) attempt {
 	}
 	w := sumByHand(matrixByHand(secret[:8]), y[0], y[1])
 	var a attempt
-	bound := joined(3, secret[:40])
 	for at := range 16 {
-		high, low, _ := signet.Parts(w[at/8][at%8])
-		bound = append(bound, byte(high))
+		_, low, _ := signet.Parts(w[at/8][at%8])
 		a.bare = append(a.bare, low)
 	}
-	a.tilde = signet.Digest(append(bound, text...))
+	a.tilde = tildeByHand(secret[:40], w, text)
 	c, _ := signet.Challenge(a.tilde)
 	p := secretsOf(secret[40:])
 	for at := range 16 {
@@ -151,11 +159,85 @@ func (a attempt) signature() []byte {
 	if a.fails() {
 		return nil
 	}
-	out := slices.Clone(a.tilde)
-	for _, x := range a.z {
+	return a.written()
+}
+
+// written is what the signature would be, though the try may fail.
+func (a attempt) written() []byte {
+	return writtenByHand(a.tilde, a.z)
+}
+
+func writtenByHand(tilde []byte, z []int) []byte {
+	out := slices.Clone(tilde)
+	for _, x := range z {
 		out = append(out, byte(x+64))
 	}
 	return out
+}
+
+// commitment is A z - c t.
+func commitment(public []byte, z []int, c api.Poly) [2]api.Poly {
+	var v [2]api.Poly
+	for at, x := range z {
+		v[at/8][at%8] = (x + 769) % 769
+	}
+	w := sumByHand(matrixByHand(public[:8]), v[0], v[1])
+	for r := range 2 {
+		var t api.Poly
+		for i := range 8 {
+			at := 8 + 16*r + 2*i
+			t[i] = 256*int(public[at]) + int(public[at+1])
+		}
+		for i, x := range mulByHand(c, t) {
+			w[r][i] = (w[r][i] - x + 769) % 769
+		}
+	}
+	return w
+}
+
+// verifyByHand is what Verify must answer of a public key and a text that may be.
+func verifyByHand(public []byte, text []byte, signature []byte) bool {
+	if len(signature) != 24 {
+		return false
+	}
+	var z []int
+	for _, x := range signature[8:] {
+		z = append(z, int(x)-64)
+	}
+	c, _ := signet.Challenge(signature[:8])
+	w := commitment(public, z, c)
+	return len(beyond(62, z)) == 0 && slices.Equal(tildeByHand(public, w, text), signature[:8])
+}
+
+// challengesByHand are all 112.
+func challengesByHand() []api.Poly {
+	var l []api.Poly
+	for i := range 8 {
+		for j := range i {
+			for signs := range 4 {
+				var c api.Poly
+				c[i], c[j] = 1+767*(signs&1), 1+767*(signs>>1)
+				l = append(l, c)
+			}
+		}
+	}
+	return l
+}
+
+// forged is a text and a signature of it with just this z, of a public key whose secrets nobody knows, or that has none: challenges are so few that some one comes out again. But for the bound on z, it holds.
+func forged(t *testing.T, public []byte, z []int) (text []byte, signature []byte) {
+	t.Helper()
+	for n := range 100 {
+		for _, c := range challengesByHand() {
+			text := []byte{byte(n)}
+			tilde := tildeByHand(public, commitment(public, z, c), text)
+			if got, _ := signet.Challenge(tilde); got == c {
+				return text, writtenByHand(tilde, z)
+			}
+		}
+	}
+	t.Fatalf("no signature was found with z %v", z)
+	return nil, nil
 }
 
 // maskOf is one of as many masks as are wanted.

@@ -50,6 +50,9 @@ func listCalls() []listCall {
 		{"Sign, of a text", func(b []byte) []byte { return signed(goodSecret(), b, []byte("saltsalt")) }},
 		{"Sign, of a secret key", func(b []byte) []byte { return signed(b, nil, []byte("saltsalt")) }},
 		{"Sign, with a salt", func(b []byte) []byte { return signed(goodSecret(), []byte("a text"), b) }},
+		{"Verify, of a public key", func(b []byte) []byte { return verified(b, nil, goodSignature()) }},
+		{"Verify, of a text", func(b []byte) []byte { return verified(goodPublic(), b, goodSignature()) }},
+		{"Verify, of a signature", func(b []byte) []byte { return verified(goodPublic(), []byte("8 bytes."), b) }},
 	}
 }
 
@@ -57,6 +60,24 @@ func listCalls() []listCall {
 func goodSecret() []byte {
 	_, secret, _ := signet.Keys([]byte("abcdefgh"))
 	return secret
+}
+
+func goodPublic() []byte {
+	public, _, _ := signet.Keys([]byte("abcdefgh"))
+	return public
+}
+
+// goodSignature is of the text that most of these tests hand in.
+func goodSignature() []byte {
+	return signed(goodSecret(), []byte("8 bytes."), []byte("saltsalt"))
+}
+
+func verified(public []byte, text []byte, signature []byte) []byte {
+	holds, e := signet.Verify(public, text, signature)
+	if holds {
+		return []byte{byte(e), 1}
+	}
+	return []byte{byte(e), 0}
 }
 
 func tried(secret []byte, text []byte, tape [][]byte) []byte {
@@ -80,7 +101,7 @@ func roomy(n int) (list []byte, all []byte) {
 
 func TestListsHandedInAreNotWrittenInto(t *testing.T) {
 	for _, c := range listCalls() {
-		for _, n := range []int{0, 1, 7, 8, 9, 16, 72, 300} {
+		for _, n := range []int{0, 1, 7, 8, 9, 16, 24, 40, 72, 300} {
 			list, all := roomy(n)
 			before := bytes.Clone(all)
 			answer := c.call(list)
@@ -176,6 +197,21 @@ func TestKeyTextAndSaltAreNotWrittenInto(t *testing.T) {
 	}
 }
 
+func TestKeyTextAndSignatureAreNotWrittenInto(t *testing.T) {
+	for _, text := range [][]byte{nil, []byte("8 bytes."), make([]byte, 200), make([]byte, 201)} {
+		for _, signature := range [][]byte{goodSignature(), goodSignature()[:23], nil, make([]byte, 24), append(goodSignature(), 0)} {
+			for _, public := range [][]byte{goodPublic(), goodPublic()[:39], bytes.Repeat([]byte{255}, 40)} {
+				b := newBuffer()
+				public, text, signature := b.list(public), b.list(text), b.list(signature)
+				holds, e := signet.Verify(public, text, signature)
+				if b.changed() {
+					t.Errorf("P2: Verify (%v, %d) writes into a list, or behind it", holds, e)
+				}
+			}
+		}
+	}
+}
+
 func TestTheTwoKeysShareNoMemory(t *testing.T) {
 	public, secret, _ := signet.Keys([]byte("abcdefgh"))
 	kept := bytes.Clone(secret[:cap(secret)])
@@ -213,6 +249,24 @@ func TestKeyTextAndTapeAreNotKept(t *testing.T) {
 	}
 }
 
+// What Verify was asked of does not outlast the call: written into, the same lists are other questions.
+func TestKeyTextAndSignatureAreNotKept(t *testing.T) {
+	for which := range 3 {
+		lists := [][]byte{goodPublic(), []byte("8 bytes."), goodSignature()}
+		if holds, e := signet.Verify(lists[0], lists[1], lists[2]); !holds || e != api.OK {
+			t.Fatalf("P9: Verify: %v, %d, want true", holds, e)
+		}
+		lists[which][0] ^= 1
+		if holds, e := signet.Verify(lists[0], lists[1], lists[2]); holds || e != api.OK {
+			t.Errorf("P2: Verify, its list %d written into: %v, %d, want false", which, holds, e)
+		}
+		lists[which][0] ^= 1
+		if holds, e := signet.Verify(lists[0], lists[1], lists[2]); !holds || e != api.OK {
+			t.Errorf("P1: Verify, asked again: %v, %d, want true", holds, e)
+		}
+	}
+}
+
 // All arguments may be the same memory.
 func TestListsMayShareMemory(t *testing.T) {
 	secret := goodSecret()
@@ -224,6 +278,10 @@ func TestListsMayShareMemory(t *testing.T) {
 	apart = tried(goodSecret(), still(), [][]byte{loud(), still()})
 	if got := tried(secret, mask, [][]byte{loud(), mask, mask}); !bytes.Equal(got, apart) || got == nil {
 		t.Errorf("P2: Try, its lists in the same memory: %v, want %v", got, apart)
+	}
+	all := joined(goodPublic(), signed(goodSecret(), goodPublic(), []byte("saltsalt")))
+	if holds, e := signet.Verify(all[:40], all[:40], all[40:]); !holds || e != api.OK {
+		t.Errorf("P2: Verify, its lists in the same memory: %v, %d, want true", holds, e)
 	}
 }
 
@@ -279,9 +337,10 @@ func TestAnswersHangOnArgumentsAlone(t *testing.T) {
 				signet.Stream([]byte{byte(i)}, 100*i)
 				signet.Mul(api.Poly{i, 5 * i}, api.Poly{768, i})
 				signet.Challenge([]byte{1, 2, 3, 4, 5, 6, 7, byte(i)})
-				_, secret, _ := signet.Keys([]byte{1, 2, 3, 4, 5, 6, 7, byte(i)})
+				public, secret, _ := signet.Keys([]byte{1, 2, 3, 4, 5, 6, 7, byte(i)})
 				signet.Try(secret, []byte{byte(i)}, [][]byte{maskOf(i), still()})
-				signet.Sign(secret, []byte{byte(i)}, secret[:8])
+				signature, _ := signet.Sign(secret, []byte{byte(i)}, secret[:8])
+				signet.Verify(public, []byte{byte(i)}, signature)
 				answers[i] = everyAnswer()
 			}
 		}()
@@ -304,6 +363,7 @@ func everyAnswer() []byte {
 		signature, number, e := signet.Try(goodSecret(), []byte{byte(n)}, tape)
 		out = append(append(out, signature...), byte(number), byte(e))
 		out = append(out, signed(goodSecret(), []byte{byte(n)}, []byte("saltsalt"))...)
+		out = append(out, verified(goodPublic(), []byte{byte(n)}, signature)...)
 	}
 	out = append(out, told(signet.Mul(api.Poly{768, 3, 700}, api.Poly{5, 0, 0, 0, 0, 0, 600, 768}))...)
 	for r := range api.Q {
@@ -315,7 +375,7 @@ func everyAnswer() []byte {
 
 func TestNoCapacityIsSeen(t *testing.T) {
 	for _, c := range listCalls() {
-		for _, n := range []int{0, 7, 8, 16, 72, 300} {
+		for _, n := range []int{0, 7, 8, 16, 24, 40, 72, 300} {
 			list, _ := roomy(n)
 			if got, want := c.call(list), c.call(bytes.Clone(list)); !bytes.Equal(got, want) {
 				t.Errorf("P1: %s sees what stands behind its list: %v, want %v", c.name, got, want)
@@ -347,8 +407,8 @@ func TestNoCallPanics(t *testing.T) {
 	if out, e := signet.Stream(long, 1000); len(out) != 1000 || e != api.OK {
 		t.Errorf("P1: Stream of 2^20 bytes: %d bytes, %d", len(out), e)
 	}
-	for _, list := range [][]byte{nil, {}, {0}, make([]byte, 8), make([]byte, 16), make([]byte, 72), bytes.Repeat([]byte{255}, 72), goodSecret(), long} {
-		for _, other := range [][]byte{nil, {0}, make([]byte, 8), make([]byte, 16), long} {
+	for _, list := range [][]byte{nil, {}, {0}, make([]byte, 8), make([]byte, 16), make([]byte, 24), make([]byte, 40), make([]byte, 72), bytes.Repeat([]byte{255}, 72), goodPublic(), goodSecret(), goodSignature(), long} {
+		for _, other := range [][]byte{nil, {0}, make([]byte, 8), make([]byte, 16), bytes.Repeat([]byte{255}, 24), long} {
 			for _, secret := range [][]byte{list, goodSecret()} {
 				noPanic(t, secret, list, other)
 			}
@@ -372,5 +432,13 @@ func noPanic(t *testing.T, secret []byte, list []byte, other []byte) {
 	}
 	if signature, e := signet.Sign(secret, list, other); e != api.OK && signature != nil || e == api.OK && len(signature) != 24 {
 		t.Errorf("P1: Sign: %v, %d", signature, e)
+	}
+	for _, public := range [][]byte{secret, list, goodPublic()} {
+		if holds, e := signet.Verify(public, list, other); holds {
+			t.Errorf("P1: Verify: %v, %d", holds, e)
+		}
+		if holds, e := signet.Verify(public, other, list); holds {
+			t.Errorf("P1: Verify: %v, %d", holds, e)
+		}
 	}
 }

@@ -7,6 +7,7 @@ import (
 	"signet/draw"
 	"signet/keys"
 	"signet/ring"
+	"signet/shown"
 	"signet/tries"
 )
 
@@ -105,4 +106,14 @@ func signer(secret []byte, text []byte) (keys.Secret, api.Errno) {
 }
 
 // Verify checks a signature (P8).
-func Verify(public []byte, text []byte, signature []byte) (bool, api.Errno) { return false, api.OK }
+func Verify(public []byte, text []byte, signature []byte) (bool, api.Errno) {
+	key, ok := keys.ReadPublic(public)
+	if !ok {
+		return false, api.ErrKey
+	}
+	if len(text) > api.MaxText {
+		return false, api.ErrArg
+	}
+	given, fine := shown.Read(signature)
+	return fine && given.Holds(key, text), api.OK
+}

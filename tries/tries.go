@@ -6,6 +6,7 @@ import (
 	"signet/draw"
 	"signet/keys"
 	"signet/ring"
+	"signet/shown"
 )
 
 // Loop tries masks, till the try of one does not fail. Where the masks come from is not its business.
@@ -33,27 +34,15 @@ func (l Loop) one(y ring.Pair) (signature []byte, fine bool) {
 	w := l.Key.Matrix.Times(y)
 	tilde := l.Key.Tilde(w, l.Text)
 	c := draw.Challenge(tilde[:])
-	z := y.Plus(l.Key.S.By(c))
-	if !within(z, api.MaxZ) {
+	made := shown.Signature{Tilde: tilde, Z: y.Plus(l.Key.S.By(c))}
+	if !made.Fine() {
 		return nil, false
 	}
 	rest := w.Minus(l.Key.E.By(c)).Reduce()
-	if !within(lows(rest), api.MaxLow) {
+	if !lows(rest).Within(api.MaxLow) {
 		return nil, false
 	}
-	return written(tilde, z), true
-}
-
-// within tells whether all coefficients are between -bound and bound, these two not among them.
-func within(v ring.Pair, bound int) bool {
-	for _, p := range v {
-		for _, x := range p {
-			if x <= -bound || x >= bound {
-				return false
-			}
-		}
-	}
-	return true
+	return made.Bytes(), true
 }
 
 // lows are the low parts.
@@ -64,15 +53,4 @@ func lows(v ring.Pair) ring.Pair {
 		}
 	}
 	return v
-}
-
-func written(tilde [api.DigestBytes]byte, z ring.Pair) []byte {
-	out := make([]byte, 0, api.SignedBytes)
-	out = append(out, tilde[:]...)
-	for _, p := range z {
-		for _, x := range p {
-			out = append(out, byte(x+api.MaskMiddle))
-		}
-	}
-	return out
 }
